@@ -5,6 +5,7 @@ import (
 	"strings"
 
 	"florin/api"
+	"florin/scan"
 )
 
 const (
@@ -12,16 +13,9 @@ const (
 	maxDigits = 9 // all numbers of so many digits are below MaxSmall
 )
 
-// fault is what the reader gives up with: an error, and where it is.
-type fault struct {
-	e  api.Errno
-	at int
-}
-
 // reader goes through a text of rules, from the left, so that the first error that it meets is the first one there is.
 type reader struct {
-	text  string
-	at    int
+	scan.Text
 	found [Other + 1]bool // the categories that have a rule
 	rels  int             // how many relations there were
 }
@@ -29,10 +23,10 @@ type reader struct {
 // rules reads all of the text.
 func (r *reader) rules() Rules {
 	var list Rules
-	for !r.ended() {
+	for !r.Ended() {
 		list = append(list, r.rule())
-		if !r.takes(";") && !r.ended() {
-			giveUp(api.ErrForm, r.at)
+		if !r.Ended() {
+			r.Wants(";")
 		}
 	}
 	return list
@@ -41,7 +35,7 @@ func (r *reader) rules() Rules {
 // rule reads a category's rule; that of other has no condition.
 func (r *reader) rule() Rule {
 	x := Rule{Cat: r.category()}
-	r.wants(":")
+	r.Wants(":")
 	if x.Cat != Other {
 		x.Any = r.condition()
 	}
@@ -51,13 +45,13 @@ func (r *reader) rule() Rule {
 
 // category reads the word of a category that has no rule yet.
 func (r *reader) category() Cat {
-	word, at := r.run(isLetter)
+	word, at := r.Run(isLetter)
 	c, ok := CatOf(word)
 	if !ok {
-		giveUp(api.ErrForm, at)
+		scan.GiveUp(api.ErrForm, at)
 	}
 	if r.found[c] {
-		giveUp(api.ErrCat, at)
+		scan.GiveUp(api.ErrCat, at)
 	}
 	r.found[c] = true
 	return c
@@ -84,12 +78,12 @@ func (r *reader) all() []Rel {
 // relation reads an operand, its divisor, if there is one, and its ranges.
 func (r *reader) relation() Rel {
 	x := Rel{Op: r.operand()}
-	if r.takes("%") {
+	if r.Takes("%") {
 		x.Mod = r.numberFrom(1)
 	}
-	x.Not = r.takes("!=")
+	x.Not = r.Takes("!=")
 	if !x.Not {
-		r.wants("=")
+		r.Wants("=")
 	}
 	x.Ranges = r.ranges()
 	return x
@@ -97,12 +91,12 @@ func (r *reader) relation() Rel {
 
 // operand reads an operand's letter, and counts the relation that it begins.
 func (r *reader) operand() byte {
-	word, at := r.run(isLetter)
+	word, at := r.Run(isLetter)
 	if len(word) != 1 || !strings.Contains(operands, word) {
-		giveUp(api.ErrForm, at)
+		scan.GiveUp(api.ErrForm, at)
 	}
 	if r.rels == api.MaxRel {
-		giveUp(api.ErrMany, at)
+		scan.GiveUp(api.ErrMany, at)
 	}
 	r.rels++
 	return word[0]
@@ -111,7 +105,7 @@ func (r *reader) operand() byte {
 // ranges reads ranges with commas between them.
 func (r *reader) ranges() []Range {
 	list := []Range{r.oneRange()}
-	for r.takes(",") {
+	for r.Takes(",") {
 		list = append(list, r.oneRange())
 	}
 	return list
@@ -120,7 +114,7 @@ func (r *reader) ranges() []Range {
 // oneRange reads a number, or two, of which the second one isn't less.
 func (r *reader) oneRange() Range {
 	lo := r.numberFrom(0)
-	if !r.takes("..") {
+	if !r.Takes("..") {
 		return Range{Lo: lo, Hi: lo}
 	}
 	return Range{Lo: lo, Hi: r.numberFrom(lo)}
@@ -128,84 +122,34 @@ func (r *reader) oneRange() Range {
 
 // numberFrom reads a number that isn't below another one.
 func (r *reader) numberFrom(least int) int {
-	digits, at := r.run(isDigit)
+	digits, at := r.Run(scan.IsDigit)
 	if digits == "" || len(digits) > 1 && digits[0] == '0' {
-		giveUp(api.ErrForm, at)
+		scan.GiveUp(api.ErrForm, at)
 	}
 	if len(digits) > maxDigits {
-		giveUp(api.ErrLong, at)
+		scan.GiveUp(api.ErrLong, at)
 	}
 	n, _ := strconv.Atoi(digits) // so few digits always are an int
 	if n < least {
-		giveUp(api.ErrArg, at)
+		scan.GiveUp(api.ErrArg, at)
 	}
 	return n
 }
 
 // samples reads samples, if there are any, as they stand.
 func (r *reader) samples() string {
-	r.skipBlanks()
-	rest := r.text[r.at:]
-	if !strings.HasPrefix(rest, "@") {
+	if !strings.HasPrefix(r.Ahead(isSample), "@") {
 		return ""
 	}
-	text, _, _ := strings.Cut(rest, ";")
-	r.at += len(text)
+	text, _ := r.Run(isSample)
 	return strings.TrimRight(text, " ")
 }
 
-// wants goes on behind a sign that must stand here.
-func (r *reader) wants(sign string) {
-	if !r.takes(sign) {
-		giveUp(api.ErrForm, r.at)
-	}
-}
-
-// takes goes on behind a sign, if it stands here.
-func (r *reader) takes(sign string) bool {
-	r.skipBlanks()
-	if !strings.HasPrefix(r.text[r.at:], sign) {
-		return false
-	}
-	r.at += len(sign)
-	return true
-}
-
 // takesWord goes on behind a word, if it stands here; a longer word that only begins so is another one.
-func (r *reader) takesWord(want string) bool {
-	word, at := r.run(isLetter)
-	if word != want {
-		r.at = at
-		return false
-	}
-	return true
+func (r *reader) takesWord(word string) bool {
+	return r.Ahead(isLetter) == word && r.Takes(word)
 }
-
-// run reads as many bytes of a kind as stand side by side, and tells where they begin.
-func (r *reader) run(isKind func(byte) bool) (string, int) {
-	r.skipBlanks()
-	start := r.at
-	for r.at < len(r.text) && isKind(r.text[r.at]) {
-		r.at++
-	}
-	return r.text[start:r.at], start
-}
-
-// ended tells whether nothing but blanks is left.
-func (r *reader) ended() bool {
-	r.skipBlanks()
-	return r.at == len(r.text)
-}
-
-func (r *reader) skipBlanks() {
-	for r.at < len(r.text) && r.text[r.at] == ' ' {
-		r.at++
-	}
-}
-
-// giveUp ends the reading at once; Parse catches it.
-func giveUp(e api.Errno, at int) { panic(fault{e: e, at: at}) }
 
 func isLetter(b byte) bool { return b >= 'a' && b <= 'z' }
 
-func isDigit(b byte) bool { return b >= '0' && b <= '9' }
+func isSample(b byte) bool { return b != ';' }
