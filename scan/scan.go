@@ -1,6 +1,6 @@
 // Package scan goes through texts from the left, for the layers that read grammars with blanks between their signs.
 //
-// Readers give up by panic, so that the first error that they meet, which is the first one there is, ends all of them at once; the face of the layer that reads catches it.
+// Readers may give up by panic, so that the first error that they meet, which is the first one there is, ends all of them at once; the face of the layer that reads catches it.
 package scan
 
 import (
@@ -31,6 +31,12 @@ func Of(s string) Text { return Text{all: s} }
 func (t *Text) Ended() bool {
 	t.skipBlanks()
 	return t.at == len(t.all)
+}
+
+// Rest is what is left, and where it begins.
+func (t *Text) Rest() (string, int) {
+	t.skipBlanks()
+	return t.all[t.at:], t.at
 }
 
 // Takes goes on behind a sign, if it stands here.

@@ -60,6 +60,24 @@ func TestWantsGivesUpBehindBlanks(t *testing.T) {
 	}
 }
 
+func TestRestTellsWhereItBegins(t *testing.T) {
+	text := Of("  a   b c  ")
+	for _, want := range []struct {
+		sign, rest string
+		at         int
+	}{{"a", "a   b c  ", 2}, {"b", "b c  ", 6}, {"c", "c  ", 8}} {
+		for range 2 {
+			if rest, at := text.Rest(); rest != want.rest || at != want.at {
+				t.Errorf("%q at %d, not %q at %d", rest, at, want.rest, want.at)
+			}
+		}
+		text.Wants(want.sign)
+	}
+	if rest, at := text.Rest(); rest != "" || at != 11 || !text.Ended() {
+		t.Errorf("at the end %q is left, at %d", rest, at)
+	}
+}
+
 func TestRunTellsWhereItBegins(t *testing.T) {
 	text := Of(" 0129 /:9")
 	for _, want := range []struct {
