@@ -1,4 +1,4 @@
-// Package scan goes through texts from the left, for the layers that read grammars with blanks between their signs.
+// Package scan goes through texts from the left, for the layers that read grammars.
 //
 // Readers may give up by panic, so that the first error that they meet, which is the first one there is, ends all of them at once; the face of the layer that reads catches it.
 package scan
@@ -18,14 +18,18 @@ type Fault struct {
 // GiveUp ends a reading at once.
 func GiveUp(e api.Errno, at int) { panic(Fault{Err: e, At: at}) }
 
-// Text is a text, and how far it is read. Whatever is asked of it, blanks are skipped first.
+// Text is a text, and how far it is read. Whatever is asked of it, blanks are skipped first, unless it is a tight one.
 type Text struct {
-	all string
-	at  int
+	all   string
+	at    int
+	tight bool
 }
 
 // Of is a text of which nothing is read yet.
 func Of(s string) Text { return Text{all: s} }
+
+// Tight is a text of which nothing is read yet, and in which blanks are signs as others are.
+func Tight(s string) Text { return Text{all: s, tight: true} }
 
 // Ended tells whether nothing is left.
 func (t *Text) Ended() bool {
@@ -75,7 +79,7 @@ func (t *Text) Run(isKind func(byte) bool) (string, int) {
 }
 
 func (t *Text) skipBlanks() {
-	for t.at < len(t.all) && t.all[t.at] == ' ' {
+	for !t.tight && t.at < len(t.all) && t.all[t.at] == ' ' {
 		t.at++
 	}
 }

@@ -46,6 +46,23 @@ func TestOtherBytesAreNotSkipped(t *testing.T) {
 	}
 }
 
+func TestBlanksOfTightTextsAreNotSkipped(t *testing.T) {
+	text := Tight(" 12  ")
+	if rest, at := text.Rest(); rest != " 12  " || at != 0 || text.Ended() || text.Takes("1") || text.Ahead(IsDigit) != "" {
+		t.Errorf("%q is left, from %d on", rest, at)
+	}
+	text.Wants(" ")
+	if run, at := text.Run(IsDigit); run != "12" || at != 1 {
+		t.Errorf("%q at %d", run, at)
+	}
+	if f, ok := gaveUp(func() { text.Wants("x") }); !ok || f != (Fault{Err: api.ErrForm, At: 3}) {
+		t.Errorf("%v, %v", f, ok)
+	}
+	if text.Ended() || !text.Takes("  ") || !text.Ended() {
+		t.Error("blanks at the end aren't taken as they stand")
+	}
+}
+
 func TestWantsGivesUpBehindBlanks(t *testing.T) {
 	for s, at := range map[string]int{"": 0, "x": 0, "   x": 3, "   ": 3, " ~": 1} {
 		text := Of(s)
